@@ -1,0 +1,1 @@
+"""Wishcount: votes by orders of wishes, counted by the strongest chains."""

@@ -1,0 +1,9 @@
+"""The refusals of the program, one class for each."""
+
+
+class WishError(ValueError):
+    pass
+
+
+class NoBallot(WishError):
+    pass
