@@ -61,6 +61,18 @@ class Raised(unittest.TestCase):
                         with self.assertRaises(taken):
                             raised(box, k, 0, 1)
 
+    def test_no_ballot_k_of_many_digits(self):
+        for box in (BOX, (1, ((0,),)), (1, ()), (7, ())):
+            for digits in (20, 4299, 4300, 4301, 5000, 20000):
+                for k in (10 ** digits, -10 ** digits):
+                    for by in (0, 1, 10 ** digits):
+                        with self.assertRaises(NoBallot):
+                            raised(box, k, 0, by)
+
+    def test_by_of_many_digits(self):
+        for digits in (20, 4300, 5000, 20000):
+            self.assertEqual(raised(BOX, 2, 0, 10 ** digits), (3, ((4, 5, 6), (4, 5, 6), (0, 0, 50))))
+
     def test_no_ballot_by_0_too(self):
         with self.assertRaises(NoBallot):
             raised(BOX, 3, 0, 0)

@@ -111,6 +111,14 @@ class Boxes(unittest.TestCase):
             self.yes((many, ((0,) * many,) * 40))
             self.no((many, ((0,) * many,) * 41))
 
+    def test_numbers_of_many_digits(self):
+        # The things are not shown by these: Python refuses to write them out.
+        for number in (10 ** 5000, -10 ** 5000):
+            self.assertIs(is_ballot((number,), 1), False)
+            self.assertIs(is_ballot((0,), number), False)
+            self.assertIs(is_box((number, ())), False)
+            self.assertIs(is_box((1, ((number,),))), False)
+
     def test_places_at_the_edges_and_beyond(self):
         self.yes((2, ((0, 99), (99, 0))))
         for wrong in (-1, 100):

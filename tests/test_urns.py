@@ -60,6 +60,13 @@ class Urns(unittest.TestCase):
                         urn.take(ballot)
                 self.holds(urn, 2, ballots)
 
+    def test_take_of_a_ballot_with_places_of_many_digits(self):
+        urn = urn_with(2, [(0, 1)])
+        for place in (10 ** 5000, -10 ** 5000):
+            with self.assertRaises(NoBallot):
+                urn.take((0, place))
+            self.holds(urn, 2, [(0, 1)])
+
     def test_a_ballot_that_was_taken_may_be_put_again(self):
         urn = urn_with(1, [(4,)])
         urn.take((4,))

@@ -13,7 +13,8 @@ def raised(box, k, name, by):
     ballots = box[1]
     # Python would count a number below 0 from the end; here no ballot has such a number.
     if k < 0 or k >= len(ballots):
-        raise NoBallot(f"there is no ballot {k}")
+        # The words leave k out: Python refuses to write out a number of very many digits.
+        raise NoBallot("there is no ballot of this number")
     return (box[0], ballots[:k] + (raised_on(ballots[k], name, by),) + ballots[k + 1:])
 
 
